@@ -1,0 +1,1 @@
+"""Wavewires: circuits of wires that are both at once, reckoned exactly."""
