@@ -1,4 +1,4 @@
-"""The rules of LANGUAGE.md that can be seen in the package's files. Behind each fault stands its rule."""
+"""Many of the rules of LANGUAGE.md, not all: what a look at the files shows. Each fault begins with its rule."""
 
 import ast
 import builtins
