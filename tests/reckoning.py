@@ -79,3 +79,111 @@ def raw_numbers(seed, many):
 
 def raw_shares(seed, many):
     return raw_parts(seed, many, 2, (0, 1, 2, 3, 8, 399, 799, 800))
+
+
+def turn_parts(e):
+    """w**e as four fractions."""
+    parts = [Fraction(0)] * 4
+    parts[e % 4] = Fraction(-1 if e % 8 > 3 else 1)
+    return tuple(parts)
+
+
+def all_bits(wires):
+    """The rows of bits of some wires, in the order of their places."""
+    return list(itertools.product((0, 1), repeat=wires))
+
+
+def with_bit(bits, wire, bit):
+    return bits[:wire] + (bit,) + bits[wire + 1:]
+
+
+def goes_to(row, bits):
+    """What a plain row makes of one at a row of bits: pairs of bits and a number as four fractions."""
+    kind, wire = row[:2]
+    if kind == "swing":
+        minus = (Fraction(0), Fraction(-1, 2), Fraction(0), Fraction(1, 2))
+        return [(with_bit(bits, wire, 0), ONE_BY_ROOT), (with_bit(bits, wire, 1), minus if bits[wire] else ONE_BY_ROOT)]
+    if kind == "turn":
+        return [(bits, turn_parts(row[2] if bits[wire] else 0))]
+    if kind == "flip":
+        return [(with_bit(bits, wire, 1 - bits[wire]), turn_parts(0))]
+    other = row[2]
+    if kind == "tie":
+        return [(with_bit(bits, other, (bits[wire] + bits[other]) % 2), turn_parts(0))]
+    if kind == "sign":
+        return [(bits, turn_parts(4 * bits[wire] * bits[other]))]
+    return [(with_bit(with_bit(bits, wire, bits[other]), other, bits[wire]), turn_parts(0))]
+
+
+def model_done(model, row):
+    """A plain row done to a model: a dict of the numbers, as four fractions, other than nought by their bits."""
+    told = {}
+    for bits, parts in model.items():
+        for further, factor in goes_to(row, bits):
+            told[further] = added_up(told.get(further, (0,) * 4), product(parts, factor))
+    return {bits: parts for bits, parts in told.items() if any(parts)}
+
+
+def model_of(state):
+    bits = all_bits(len(state).bit_length() - 1)
+    return {row: stands_for(x) for row, x in zip(bits, state) if any(x)}
+
+
+def model_branches(circuit, bits):
+    """The pairs (marks, model) of a run, each row of marks gone through by itself."""
+    wires, rows = circuit
+    looks = sum(row[0] == "look" for row in rows)
+    told = []
+    for marks in itertools.product((0, 1), repeat=looks):
+        model = {bits: turn_parts(0)}
+        ahead = 0
+        for row in rows:
+            if row[0] == "look":
+                model = {b: parts for b, parts in model.items() if b[row[1]] == marks[ahead]}
+                ahead += 1
+            elif row[0] != "where":
+                model = model_done(model, row)
+            elif marks[row[1]]:
+                model = model_done(model, row[2])
+        if model:
+            told.append((marks, model))
+    return told
+
+
+def plain_rows(wires):
+    """All plain rows over some wires."""
+    told = [(kind, j) for kind in ("swing", "flip") for j in range(wires)]
+    told += [("turn", j, e) for j in range(wires) for e in range(1, 8)]
+    pairs = list(itertools.permutations(range(wires), 2))
+    return told + [(kind,) + pair for kind in ("tie", "sign", "cross") for pair in pairs]
+
+
+def any_circuit(chance, wires, many, looks=0, rows=None):
+    """A circuit of many rows with as many looks as told, and where rows behind the first of them."""
+    rows = rows or plain_rows(wires)
+    looked = sorted(chance.sample(range(many), looks))
+    told = []
+    for k in range(many):
+        ahead = sum(row[0] == "look" for row in told)
+        wire = chance.randrange(wires)
+        if k in looked:
+            told.append(("look", wire))
+        elif ahead and chance.random() < 0.25:
+            told.append(("where", chance.randrange(ahead), chance.choice((("flip", wire), ("turn", wire, 4)))))
+        else:
+            told.append(chance.choice([("swing", wire), chance.choice(rows), chance.choice(rows)]))
+    return (wires, tuple(told))
+
+
+def any_state(chance, wires):
+    """A state of numbers great and small, some of them nought."""
+    raws = raw_parts(chance.random(), 1 << wires, 4, (0, 1, 2, 3, 8, 199, 200))
+    return tuple((0,) * 5 if chance.random() < 0.2 else least(raw) for raw in raws)
+
+
+def least(raw):
+    """The least form of raw parts, by one r after another."""
+    a, b, c, d, k = raw
+    while k and (a - c) % 2 == 0 and (b - d) % 2 == 0:
+        a, b, c, d, k = (b - d) // 2, (a + c) // 2, (b + d) // 2, (c - a) // 2, k - 1
+    return (a, b, c, d, k)

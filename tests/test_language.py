@@ -28,6 +28,8 @@ BARRED_NAMES = set(
     "register mro elements open input version_info with_traceback add_note attrgetter breakpoint builtins compile "
     "copyright credits delattr dir eval exec exit gc getattr globals hasattr help id importlib license locals "
     "methodcaller os quit setattr super type vars sys chr format format_map sort".split())
+WALKED = ("zip", "enumerate", "reversed", "range", "items", "keys", "values")
+WALKERS = ("list", "tuple", "dict", "sorted", "sum", "any", "all", "enumerate", "zip", "min", "max", "join")
 TOP = (ast.ImportFrom, ast.FunctionDef, ast.ClassDef, ast.Assign)
 STATEMENTS = (
     ast.Assign, ast.AugAssign, ast.If, ast.While, ast.For, ast.Return, ast.Break, ast.Continue, ast.Pass, ast.Raise,
@@ -117,6 +119,28 @@ def expression_faults(node):
     if isinstance(node, ast.Compare) and any(isinstance(op, (ast.Is, ast.IsNot)) for op in node.ops):
         if not any(isinstance(side, ast.Constant) for side in [node.left] + node.comparators):
             yield "L20 is"
+    if isinstance(node, ast.FormattedValue):
+        if not isinstance(node.value, ast.Name) or node.format_spec or node.conversion not in (-1, ord("r")):
+            yield "L7 an f-string"
+
+
+def called(node):
+    """The name or method that is called, if the node is a call."""
+    if not isinstance(node, ast.Call):
+        return None
+    return node.func.id if isinstance(node.func, ast.Name) else node.func.attr
+
+
+def walk_faults(tree):
+    """What is made only to be walked, and sets, beside what they stand in."""
+    for outer in ast.walk(tree):
+        for inner in ast.iter_child_nodes(outer):
+            within = called(outer) if isinstance(outer, ast.Call) and inner in outer.args else None
+            if called(inner) in WALKED and not (isinstance(outer, (ast.For, ast.comprehension)) or within in WALKERS):
+                yield f"L23 {called(inner)}, line {inner.lineno}"
+            if called(inner) in ("set", "frozenset") or isinstance(inner, ast.Set):
+                if within not in ("sorted", "len") and not isinstance(outer, (ast.Compare, ast.BinOp)):
+                    yield f"L24 a set, line {inner.lineno}"
 
 
 def names_of(node):
@@ -149,7 +173,7 @@ def name_faults(tree):
 
 def faults_of(name, text):
     tree = ast.parse(text)
-    found = list(text_faults(text)) + list(top_faults(name, tree)) + list(name_faults(tree))
+    found = list(text_faults(text)) + list(top_faults(name, tree)) + list(name_faults(tree)) + list(walk_faults(tree))
     docstring = tree.body[0] if ast.get_docstring(tree) else None
     for node in ast.walk(tree):
         if isinstance(node, ast.stmt) and node is not docstring:
@@ -189,10 +213,16 @@ class Language(unittest.TestCase):
             "def f(x):\n    return x is f", "def f(x):\n    return sum(y for y in x)", "X = 1.5", "X = 1\nX = 2",
             "def _f():\n    pass", "# a type", "X = '\u00e9'", "X = 1" + " " * 120, "def f():\n" + "    pass\n" * 41,
             "def f(x):\n    return x.encode()", "def f():\n    return open", "class C:\n    x = 1", "X = 'a%b'",
+            "def f(x):\n    return f'{x[0]}'", "def f(x):\n    return f'{x:3}'", "def f(x):\n    y = range(x)\n    return y",
+            "def f(x):\n    return x.items()", "def f(x):\n    y = set(x)\n    return y", "def f(x):\n    return {x}",
             "def f():\n    'words'", "def f(x):\n    for y in x:\n        pass\n    else:\n        pass")
         for text in bad:
             self.assertNotEqual(faults_of("ring", text), [], text)
-        self.assertEqual(faults_of("ring", "'''Words.'''\nX = 1\n\n\ndef f(x):\n    return x + X\n"), [])
+        good = (
+            "'''Words.'''\nX = 1\n\n\ndef f(x):\n    return x + X\n", "def f(x):\n    return f'{x} and {x!r}'",
+            "def f(x):\n    return [y for y in range(x)]", "def f(x):\n    return sorted(set(x)) + sorted(x.items())")
+        for text in good:
+            self.assertEqual(faults_of("ring", text), [], text)
 
 
 if __name__ == "__main__":

@@ -3,6 +3,7 @@
 w is the eighth turn, w**4 is -1; r is root two, w - w**3.
 """
 
+NOUGHT = (0, 0, 0, 0, 0)
 ONE = (1, 0, 0, 0, 0)
 
 
