@@ -1,5 +1,8 @@
 """What the tests reckon with: numbers and shares as plain fractions, apart from the program's own ways."""
 
+import copy
+import functools
+import inspect
 import itertools
 import random
 from fractions import Fraction
@@ -187,3 +190,88 @@ def least(raw):
     while k and (a - c) % 2 == 0 and (b - d) % 2 == 0:
         a, b, c, d, k = (b - d) // 2, (a + c) // 2, (b + d) // 2, (c - a) // 2, k - 1
     return (a, b, c, d, k)
+
+
+@functools.lru_cache(100000)
+def bits_in(bitset):
+    """A set of bits as a frozenset of their numbers."""
+    return frozenset(k for k in range(bitset.bit_length()) if bitset >> k & 1)
+
+
+def as_number(bits):
+    return sum(1 << k for k in bits)
+
+
+def odd(bitset, setting):
+    return len(bits_in(bitset) & setting) % 2
+
+
+def ways_number(one, begin, marks, end):
+    """The number of a sum as four fractions, by the words of [5.3]; begin and end as rows of bits."""
+    (wires, looks), halves, turn, turns, ties, hidden = one
+    told = [0] + [k + 1 for k, bit in enumerate(begin + end + marks) if bit]
+    total = (Fraction(0),) * 4
+    for way in itertools.product((0, 1), repeat=len(hidden)):
+        setting = frozenset(told) | {bit for bit, taken in zip(hidden, way) if taken}
+        if not any(odd(tie, setting) for tie in ties):
+            total = added_up(total, turn_parts(sum(e * odd(bitset, setting) for bitset, e in turns)))
+    for k in range(abs(halves) % 2):
+        total = product(total, ONE_BY_ROOT if halves > 0 else (0, 1, 0, -1))
+    scale = Fraction(2) ** (abs(halves) // 2)
+    total = tuple(part / scale if halves > 0 else part * scale for part in total)
+    return product(total, turn_parts(turn))
+
+
+def settings_of(one):
+    """All (begin, marks, end) of a sum, as rows of bits."""
+    wires, looks = one[0]
+    return list(itertools.product(all_bits(wires), all_bits(looks), all_bits(wires)))
+
+
+def sum_is_formed(one):
+    """Whether it is of the form that [5.2] tells."""
+    if type(one) is not tuple or len(one) != 6 or any(type(part) is not tuple for part in (one[0],) + one[3:]):
+        return False
+    (wires, looks), halves, turn, turns, ties, hidden = one
+    ints = [wires, looks, halves, turn] + list(ties) + list(hidden) + [part for pair in turns for part in pair]
+    if any(type(whole) is not int for whole in ints) or any(type(pair) is not tuple for pair in turns):
+        return False
+    bits = frozenset(range(2 * wires + looks + 1)) | frozenset(hidden)
+    sets = [pair[0] for pair in turns]
+    rising = all(list(row) == sorted(set(row)) for row in (sets, ties, hidden))
+    known = all(s > 0 and bits_in(s) <= bits for s in sets + list(ties))
+    fair = all(s % 2 == 0 for s in sets) and all(1 <= e <= 7 for s, e in turns)
+    return rising and known and fair and 0 <= turn <= 7 and all(b > 2 * wires + looks for b in hidden)
+
+
+def any_set(chance, bits, share=0.4):
+    """A set of some of the bits that is not empty."""
+    told = as_number(bit for bit in bits if chance.random() < share)
+    return told or 1 << chance.choice(bits)
+
+
+def any_sum(chance, shape, hidden, turns, ties, es=(1, 2, 3, 4, 5, 6, 7)):
+    """A sum with so many hidden bits, and at most so many turns and ties."""
+    first = 2 * shape[0] + 1 + shape[1]
+    hid = sorted(chance.sample(range(first, chance.choice((first + hidden, 300))), hidden))
+    bits = list(range(1, first)) + hid
+    by_set = {any_set(chance, bits): chance.choice(es) for k in range(turns)}
+    tied = sorted({any_set(chance, [0] + bits, chance.choice((0.1, 0.4))) for k in range(ties)})
+    halves = chance.choice((0, 1, 2, 5, -1, -3, 400, -400, 399, -399))
+    return (shape, halves, chance.randrange(8), tuple(sorted(by_set.items())), tuple(tied), tuple(hid))
+
+
+def check_told_alike(case, asks):
+    """Each ask (function, what is handed in) leaves what is handed in as it was, and is told alike again."""
+    for ask, handed in asks:
+        kept = copy.deepcopy(handed)
+        first = ask(*handed)
+        case.assertTrue(handed == kept, ask)
+        case.assertTrue(ask(*handed) == first, ask)
+
+
+def check_arguments(case, module, told):
+    """Each function is there under its name, with its arguments."""
+    for ask, arguments in told:
+        case.assertEqual(str(inspect.signature(ask)), arguments)
+        case.assertIs(getattr(module, ask.__name__), ask)

@@ -1,7 +1,5 @@
 """[0.6], [3.1], [3.2] Circuits: what they are, turned about, behind one another, side by side."""
 
-import copy
-import inspect
 import random
 import unittest
 
@@ -12,7 +10,7 @@ from wavewires.ring import times
 from wavewires.runs import branches
 from wavewires.states import all_done, column
 
-from reckoning import any_circuit, any_state, plain_rows
+from reckoning import any_circuit, any_state, check_arguments, check_told_alike, plain_rows
 
 LOOK = ("look", 0)
 FLIP = ("flip", 0)
@@ -226,19 +224,13 @@ class Telling(CircuitCase):
         plain, one, other = any_circuit(chance, 3, 20), any_circuit(chance, 3, 20, 2), any_circuit(chance, 3, 20, 4)
         asks = [(is_plain, (one,)), (looks_in, (one,)), (turned_about, (plain,)), (behind, (one, other)),
                 (side_by_side, (one, other)), (wires_of, (("tie", 2, 0),))]
-        for ask, handed in asks:
-            kept = copy.deepcopy(handed)
-            first = ask(*handed)
-            self.assertEqual(handed, kept)
-            self.assertEqual(ask(*handed), first)
+        check_told_alike(self, asks)
 
     def test_arguments_are_those_of_the_interface(self):
         told = (
             (is_plain, "(circuit)"), (looks_in, "(circuit)"), (wires_of, "(row)"), (turned_about, "(circuit)"),
             (behind, "(one, other)"), (side_by_side, "(one, other)"))
-        for ask, arguments in told:
-            self.assertEqual(str(inspect.signature(ask)), arguments)
-            self.assertIs(getattr(circuits, ask.__name__), ask)
+        check_arguments(self, circuits, told)
 
 
 if __name__ == "__main__":

@@ -1,6 +1,5 @@
 """[3.3], [3.4] Circuits' texts, and texts that are refused."""
 
-import inspect
 import random
 import re
 import unittest
@@ -9,7 +8,7 @@ from wavewires import reading
 from wavewires.errors import BadRow
 from wavewires.reading import read, shown
 
-from reckoning import any_circuit, plain_rows
+from reckoning import any_circuit, check_arguments, plain_rows
 
 FORMS = re.compile(
     r"(?:(swing|flip|look) ([0-9])|(turn) ([0-9]) ([1-7])|(tie|sign|cross) ([0-9]) ([0-9])"
@@ -217,9 +216,7 @@ class Telling(ReadingCase):
             self.check_refused("wires 2\nlook 2", 2)
 
     def test_arguments_are_those_of_the_interface(self):
-        for ask, arguments in ((shown, "(circuit)"), (read, "(text)")):
-            self.assertEqual(str(inspect.signature(ask)), arguments)
-            self.assertIs(getattr(reading, ask.__name__), ask)
+        check_arguments(self, reading, ((shown, "(circuit)"), (read, "(text)")))
 
 
 if __name__ == "__main__":

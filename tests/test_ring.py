@@ -1,13 +1,12 @@
 """[0.2], [0.3], [0.5], [1.1] Numbers."""
 
-import inspect
 import unittest
 from fractions import Fraction
 
 from wavewires import ring
 from wavewires.ring import against, halved, mirrored, number, plus, times, turn_of, turned
 
-from reckoning import MANY, MOST, added_up, is_least, product, raw_numbers, stands_for
+from reckoning import MANY, MOST, added_up, check_arguments, is_least, product, raw_numbers, stands_for
 
 NOUGHT = (0, 0, 0, 0, 0)
 ONE = (1, 0, 0, 0, 0)
@@ -232,9 +231,7 @@ class Telling(NumberCase):
         told = (
             (number, "(a, b, c, d, k=0)"), (plus, "(x, y)"), (times, "(x, y)"), (against, "(x)"),
             (turned, "(x, e)"), (mirrored, "(x)"), (halved, "(x)"), (turn_of, "(x)"))
-        for ask, arguments in told:
-            self.assertEqual(str(inspect.signature(ask)), arguments)
-            self.assertIs(getattr(ring, ask.__name__), ask)
+        check_arguments(self, ring, told)
 
 
 if __name__ == "__main__":

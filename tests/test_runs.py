@@ -1,7 +1,5 @@
 """[4.1] to [4.3] Runs: their branches, shares and marks."""
 
-import copy
-import inspect
 import random
 import unittest
 
@@ -10,7 +8,7 @@ from wavewires.runs import branches, mark_shares, marks_told
 from wavewires.shares import share_less, share_plus
 from wavewires.states import column, whole
 
-from reckoning import all_bits, any_circuit, is_least, model_branches, model_of
+from reckoning import all_bits, any_circuit, check_arguments, check_told_alike, is_least, model_branches, model_of
 
 O = (0, 0, 0, 0, 0)
 I = (1, 0, 0, 0, 0)
@@ -171,11 +169,7 @@ class Marks(RunCase):
 class Telling(RunCase):
     def test_what_was_handed_in_stays_and_the_same_is_told_alike(self):
         circuit = any_circuit(random.Random(5), 3, 20, 3)
-        for ask in (branches, mark_shares, marks_told):
-            kept = copy.deepcopy(circuit)
-            first = ask(circuit, 3)
-            self.assertEqual(circuit, kept)
-            self.assertEqual(ask(circuit, 3), first)
+        check_told_alike(self, [(ask, (circuit, 3)) for ask in (branches, mark_shares, marks_told)])
 
     def test_a_list_that_was_told_and_changed_changes_nothing_later(self):
         circuit = (1, (("swing", 0), ("look", 0)))
@@ -191,9 +185,7 @@ class Telling(RunCase):
         self.assertEqual(marks_told((1, ())), [])
 
     def test_arguments_are_those_of_the_interface(self):
-        for ask in (branches, mark_shares, marks_told):
-            self.assertEqual(str(inspect.signature(ask)), "(circuit, place=0)")
-            self.assertIs(getattr(runs, ask.__name__), ask)
+        check_arguments(self, runs, [(ask, "(circuit, place=0)") for ask in (branches, mark_shares, marks_told)])
 
 
 if __name__ == "__main__":

@@ -1,6 +1,5 @@
 """[0.2], [0.3], [0.5], [1.2], [1.3] Shares, and the sizes of numbers."""
 
-import inspect
 import unittest
 from fractions import Fraction
 
@@ -9,7 +8,7 @@ from wavewires.ring import halved, mirrored, number, times, turned
 from wavewires.shares import share, share_less, share_plus, share_times, size_of
 
 from reckoning import (
-    MANY, MOST, raw_numbers, raw_shares, share_is_least, share_stands_for, sign_of, stands_for)
+    MANY, MOST, check_arguments, raw_numbers, raw_shares, share_is_least, share_stands_for, sign_of, stands_for)
 
 NOUGHT = (0, 0, 0)
 ONE = (1, 0, 0)
@@ -244,9 +243,7 @@ class Telling(ShareCase):
         told = (
             (share, "(p, q, k=0)"), (share_plus, "(x, y)"), (share_times, "(x, y)"), (share_less, "(x, y)"),
             (size_of, "(x)"))
-        for ask, arguments in told:
-            self.assertEqual(str(inspect.signature(ask)), arguments)
-            self.assertIs(getattr(shares, ask.__name__), ask)
+        check_arguments(self, shares, told)
 
 
 if __name__ == "__main__":

@@ -1,7 +1,5 @@
 """[0.2], [0.3], [0.6], [2.1] to [2.4] Places, states, plain rows, the whole and the inner number, columns."""
 
-import copy
-import inspect
 import random
 import unittest
 from fractions import Fraction
@@ -13,8 +11,8 @@ from wavewires.shares import share_less
 from wavewires.states import all_done, beginning, bits_of, column, done, inner, place_of, whole
 
 from reckoning import (
-    MOST, added_up, all_bits, any_circuit, any_state, is_least, model_done, model_of, plain_rows, product,
-    share_is_least, share_stands_for, stands_for, turn_parts)
+    MOST, added_up, all_bits, any_circuit, any_state, check_arguments, check_told_alike, is_least, model_done,
+    model_of, plain_rows, product, share_is_least, share_stands_for, stands_for, turn_parts)
 
 O = (0, 0, 0, 0, 0)
 I = (1, 0, 0, 0, 0)
@@ -295,19 +293,13 @@ class Telling(StateCase):
         asks += [
             (all_done, (state, circuit[1])), (whole, (state,)), (inner, (state, other)), (column, (circuit, 5)),
             (place_of, ((1, 0, 1),)), (bits_of, (3, 5)), (beginning, (3, 5))]
-        for ask, handed in asks:
-            kept = copy.deepcopy(handed)
-            first = ask(*handed)
-            self.assertTrue(handed == kept)
-            self.assertTrue(ask(*handed) == first)
+        check_told_alike(self, asks)
 
     def test_arguments_are_those_of_the_interface(self):
         told = (
             (place_of, "(bits)"), (bits_of, "(wires, place)"), (beginning, "(wires, place=0)"), (done, "(state, row)"),
             (all_done, "(state, rows)"), (whole, "(state)"), (inner, "(one, other)"), (column, "(circuit, place)"))
-        for ask, arguments in told:
-            self.assertEqual(str(inspect.signature(ask)), arguments)
-            self.assertIs(getattr(states, ask.__name__), ask)
+        check_arguments(self, states, told)
 
 
 if __name__ == "__main__":

@@ -45,9 +45,9 @@ def flipped_where(state, held, bit):
     return tuple([state[p ^ bit] if p & held == held else state[p] for p in range(len(state))])
 
 
-def crossed(state, both):
+def exchanged(place, both):
     # Where just one of both bits is 1 they are exchanged by changing both.
-    return tuple([state[p] if p & both in (0, both) else state[p ^ both] for p in range(len(state))])
+    return place if place & both in (0, both) else place ^ both
 
 
 def done(state, row):
@@ -64,7 +64,7 @@ def done(state, row):
         return flipped_where(state, first, second)
     if row[0] == "sign":
         return turned_where(state, first | second, 4)
-    return crossed(state, first | second)
+    return tuple([state[exchanged(p, first | second)] for p in range(len(state))])
 
 
 def all_done(state, rows):
