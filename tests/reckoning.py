@@ -153,12 +153,32 @@ def model_branches(circuit, bits):
     return told
 
 
+@functools.lru_cache(1000)
+def model_columns(circuit):
+    """The models of all columns of a plain circuit, in the order of their places."""
+    return [model_branches(circuit, bits)[0][1] for bits in all_bits(circuit[0])]
+
+
+def model_turn(one, other):
+    """The turn between two plain circuits, or None, by the words of [9.1]."""
+    firsts, seconds = model_columns(one), model_columns(other)
+    for e in range(8):
+        if [{bits: product(x, turn_parts(e)) for bits, x in first.items()} for first in firsts] == seconds:
+            return e
+    return None
+
+
 def plain_rows(wires):
     """All plain rows over some wires."""
     told = [(kind, j) for kind in ("swing", "flip") for j in range(wires)]
     told += [("turn", j, e) for j in range(wires) for e in range(1, 8)]
     pairs = list(itertools.permutations(range(wires), 2))
     return told + [(kind,) + pair for kind in ("tie", "sign", "cross") for pair in pairs]
+
+
+def even_rows(wires):
+    """All plain rows over some wires but odd turns."""
+    return [row for row in plain_rows(wires) if row[0] != "turn" or row[2] % 2 == 0]
 
 
 def any_circuit(chance, wires, many, looks=0, rows=None):
@@ -259,6 +279,53 @@ def any_sum(chance, shape, hidden, turns, ties, es=(1, 2, 3, 4, 5, 6, 7)):
     tied = sorted({any_set(chance, [0] + bits, chance.choice((0.1, 0.4))) for k in range(ties)})
     halves = chance.choice((0, 1, 2, 5, -1, -3, 400, -400, 399, -399))
     return (shape, halves, chance.randrange(8), tuple(sorted(by_set.items())), tuple(tied), tuple(hid))
+
+
+def any_word(chance, wires):
+    return (chance.randrange(2 ** wires), chance.randrange(2 ** wires), chance.randrange(4))
+
+
+def against_each_other(one, other):
+    """Whether two words do not agree: by how many wires the one flips and the other signs."""
+    return (len(bits_in(one[0] & other[1])) + len(bits_in(one[1] & other[0]))) % 2 == 1
+
+
+def straight(word):
+    return (word[2] + len(bits_in(word[0] & word[1]))) % 2 == 0
+
+
+def is_table(table, wires):
+    """Whether it is of the form and the kinds that [8.1] tells."""
+    if type(table) is not tuple or len(table) != wires:
+        return False
+    if any(type(pair) is not tuple or len(pair) != 2 for pair in table):
+        return False
+    words = [word for pair in table for word in pair]
+    if any(type(word) is not tuple or [type(part) for part in word] != [int] * 3 for word in words):
+        return False
+    if any(not (0 <= x < 2 ** wires and 0 <= z < 2 ** wires and 0 <= s < 4) for x, z, s in words):
+        return False
+    keepers = [keeper for helper, keeper in table]
+    apart = [[against_each_other(word, keeper) for keeper in keepers] for word in keepers]
+    helped = [[against_each_other(helper, keeper) for keeper in keepers] for helper, beside in table]
+    alone = [[i == j for j in range(wires)] for i in range(wires)]
+    return all(straight(word) for word in keepers) and not any(map(any, apart)) and helped == alone
+
+
+def any_table(chance, wires):
+    """Any table: keepers and helpers are picked until they fit, helpers whether or not they agree with each other."""
+    keepers, reached = [], {(0, 0)}
+    while len(keepers) < wires:
+        word = any_word(chance, wires)
+        if straight(word) and word[:2] not in reached and not any(against_each_other(word, k) for k in keepers):
+            keepers.append(word)
+            reached |= {(x ^ word[0], z ^ word[1]) for x, z in reached}
+    helpers = []
+    while len(helpers) < wires:
+        word = any_word(chance, wires)
+        if [against_each_other(word, keeper) for keeper in keepers] == [k == len(helpers) for k in range(wires)]:
+            helpers.append(word)
+    return tuple(zip(helpers, keepers))
 
 
 def check_told_alike(case, asks):

@@ -10,7 +10,7 @@ from wavewires.runs import branches
 from wavewires.sums import number_at, sum_of
 
 from reckoning import (
-    MANY, all_bits, any_circuit, any_sum, as_number, bits_in, check_arguments, check_told_alike, plain_rows,
+    MANY, all_bits, any_circuit, any_sum, as_number, bits_in, check_arguments, check_told_alike, even_rows,
     settings_of, sum_is_formed, ways_number)
 
 O = (0, 0, 0, 0, 0)
@@ -254,8 +254,7 @@ class Worn(SumCase):
         chance = random.Random(10)
         for turn in range(25):
             wires = chance.randint(1, 3)
-            rows = [row for row in plain_rows(wires) if row[0] != "turn" or row[2] in EVEN]
-            circuit = any_circuit(chance, wires, chance.choice((8, 25, 60)), chance.randint(0, 3), rows)
+            circuit = any_circuit(chance, wires, chance.choice((8, 25, 60)), chance.randint(0, 3), even_rows(wires))
             steps, last = self.check_worn(sum_of(circuit))
             self.assertEqual(last[5], ())
             self.check_run(circuit, last)

@@ -11,7 +11,8 @@ from wavewires.states import done
 from wavewires.words import agree, carried, is_straight, word_done, word_times
 
 from reckoning import (
-    all_bits, any_state, check_arguments, check_told_alike, is_least, model_of, plain_rows, product, turn_parts)
+    all_bits, any_state, any_word, check_arguments, check_told_alike, is_least, model_of, plain_rows, product,
+    turn_parts)
 
 O = (0, 0, 0, 0, 0)
 I = (1, 0, 0, 0, 0)
@@ -21,10 +22,6 @@ NOTHING = (0, 0, 0)
 
 def all_words(wires):
     return list(itertools.product(range(2 ** wires), range(2 ** wires), range(4)))
-
-
-def any_word(chance, wires):
-    return (chance.randrange(2 ** wires), chance.randrange(2 ** wires), chance.randrange(4))
 
 
 def plain_state(wires):
@@ -130,7 +127,8 @@ class Products(WordCase):
 
     def test_straight_told_ones(self):
         told = (
-            (NOTHING, True), ((0, 0, 2), True), ((0, 0, 1), False), ((0, 0, 3), False), ((1, 0, 0), True), ((0, 1, 2), True),
+            (NOTHING, True), ((0, 0, 2), True), ((0, 0, 1), False), ((0, 0, 3), False), ((1, 0, 0), True),
+            ((0, 1, 2), True),
             ((1, 1, 0), False), ((1, 1, 1), True), ((1, 1, 2), False), ((1, 1, 3), True), ((3, 3, 0), True),
             ((3, 3, 1), False), ((7, 7, 1), True), ((2, 1, 0), True), ((2, 1, 1), False))
         for word, due in told:
@@ -221,7 +219,8 @@ class Telling(WordCase):
 
     def test_arguments_are_those_of_the_interface(self):
         told = (
-            (word_times, "(one, other)"), (agree, "(one, other)"), (is_straight, "(word)"), (word_done, "(state, word)"),
+            (word_times, "(one, other)"), (agree, "(one, other)"), (is_straight, "(word)"),
+            (word_done, "(state, word)"),
             (carried, "(wires, word, row)"))
         check_arguments(self, words, told)
 

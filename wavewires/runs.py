@@ -14,32 +14,40 @@ def is_nought(state):
     return all([x == NOUGHT for x in state])
 
 
-def parted(branch, bit):
+def parted(branch, wire):
     # Once a state is nought everywhere no row changes it, so it is left out here already.
+    bit = worth(len(branch[1]).bit_length() - 1, wire)
     pairs = [(branch[0] + (mark,), left_by(branch[1], bit, mark)) for mark in (0, 1)]
     return [pair for pair in pairs if not is_nought(pair[1])]
 
 
 def gone_on(branch, row):
+    return (branch[0], done(branch[1], row))
+
+
+def due_gone_on(branch, row, go):
     if row[0] != "where":
-        return (branch[0], done(branch[1], row))
-    if branch[0][row[1]] == 0:
-        return branch
-    return (branch[0], done(branch[1], row[2]))
+        return go(branch, row)
+    return go(branch, row[2]) if branch[0][row[1]] == 1 else branch
 
 
-def branches(circuit, place=0):
-    told = [((), beginning(circuit[0], place))]
-    for row in circuit[1]:
+def gone_through(rows, begun, part, go):
+    # Whatever a branch holds behind its marks: `part` parts it by a look, `go` does a plain row to it.
+    told = [begun]
+    for row in rows:
         if row[0] == "look":
             # Parted in their order, by 0 and then by 1, the branches stay in order.
             further = []
             for branch in told:
-                further.extend(parted(branch, worth(circuit[0], row[1])))
+                further.extend(part(branch, row[1]))
             told = further
         else:
-            told = [gone_on(branch, row) for branch in told]
+            told = [due_gone_on(branch, row, go) for branch in told]
     return told
+
+
+def branches(circuit, place=0):
+    return gone_through(circuit[1], ((), beginning(circuit[0], place)), parted, gone_on)
 
 
 def mark_shares(circuit, place=0):
