@@ -198,6 +198,17 @@ def any_circuit(chance, wires, many, looks=0, rows=None):
     return (wires, tuple(told))
 
 
+def repeating_circuit(chance, wires, many, looks=0, rows=None):
+    """A circuit of rows picked from few, so that many of them can be taken out or joined."""
+    few = chance.sample(rows or plain_rows(wires), min(5, wires + 3)) + [("swing", chance.randrange(wires))] * 2
+    told = list(any_circuit(chance, wires, many, looks, few)[1])
+    for k in range(1, many):
+        wheres = [row for row in told[:k] if row[0] == "where"]
+        if told[k][0] == "where" and wheres and chance.random() < 0.7:
+            told[k] = chance.choice(wheres)
+    return (wires, tuple(told))
+
+
 def any_state(chance, wires):
     """A state of numbers great and small, some of them nought."""
     raws = raw_parts(chance.random(), 1 << wires, 4, (0, 1, 2, 3, 8, 199, 200))

@@ -72,20 +72,29 @@ def stepped(one, step):
     return put(one, step[1], step[2])
 
 
-def worn(one):
-    # Each step takes a hidden bit away, so there is an end.
+def led_on(thing, steps_for, behind_step):
+    # Each step makes the thing shorter, so there is an end.
     chain = []
-    steps = steps_of(one)
+    steps = steps_for(thing)
     while steps != []:
         chain.append(steps[0])
-        one = stepped(one, steps[0])
-        steps = steps_of(one)
-    return (chain, one)
+        thing = behind_step(thing, steps[0])
+        steps = steps_for(thing)
+    return (chain, thing)
+
+
+def leads_to(thing, steps, last, behind_step):
+    for step in steps:
+        try:
+            thing = behind_step(thing, step)
+        except NoStep:
+            return False
+    return thing == last
+
+
+def worn(one):
+    return led_on(one, steps_of, stepped)
 
 
 def chain_stands(one, steps, last):
-    for step in steps:
-        if not fits(one, step):
-            return False
-        one = stepped(one, step)
-    return one == last
+    return leads_to(one, steps, last, stepped)
